@@ -1,0 +1,1 @@
+"""Slate: a sheet of cells that keeps itself reckoned."""
