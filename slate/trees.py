@@ -1,8 +1,9 @@
-"""Trees of formulas: their parts, how deep and wide they are, and which places they mean."""
+"""Trees of formulas: their parts, their strengths, how deep and wide they are, and which places they mean."""
 
 from slate.places import between, in_order
 
 LEAF_KINDS = ("num", "ref", "gone", "area")
+STRENGTHS = {"<": 1, "=": 1, "+": 2, "-": 2, "*": 3, "/": 3}
 
 
 def parts(tree):
@@ -15,6 +16,26 @@ def parts(tree):
     if kind == "two":
         return [tree[2], tree[3]]
     return list(tree[1:])
+
+
+def with_parts(tree, others):
+    kind = tree[0]
+    if kind in LEAF_KINDS:
+        return tree
+    if kind == "over":
+        return ("over", tree[1], list(others))
+    if kind == "two":
+        return ("two", tree[1], others[0], others[1])
+    return (kind,) + tuple(others)
+
+
+def strength(tree):
+    # Only the kind and the sign are looked at: a two or a minus that still lacks its last part has a strength too.
+    if tree[0] == "two":
+        return STRENGTHS[tree[1]]
+    if tree[0] == "minus":
+        return 4
+    return 5
 
 
 def levels(tree):

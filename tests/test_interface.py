@@ -17,6 +17,15 @@ FUNCTIONS = {
         "in_order": ["places"],
     },
     "trees": {"parts": ["tree"], "deep": ["tree"], "leaves": ["tree"], "meant": ["tree"]},
+    "signs": {"tokens": ["text"]},
+    "reading": {"read_formula": ["text"]},
+    "writing": {"formula_text": ["tree"]},
+    "moving": {
+        "come_place": ["place", "axis", "at", "many"],
+        "go_place": ["place", "axis", "at", "many"],
+        "come_tree": ["tree", "axis", "at", "many"],
+        "go_tree": ["tree", "axis", "at", "many"],
+    },
 }
 
 STAGES = (

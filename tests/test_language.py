@@ -42,6 +42,15 @@ UNSAID_WITHIN = ("dataclass", "overload", "contextmanager")
 
 SPECIAL = ("__init__", "__eq__", "__repr__", "__str__", "__len__")
 
+KEYWORDS = {"sorted": ("key", "reverse"), "min": ("key", "default"), "max": ("key", "default"), "sum": ("start",),
+            "enumerate": ("start",), "zip": ("strict",)}
+
+WALKED = ("zip", "enumerate", "reversed", "range")
+
+WALKED_METHODS = ("items", "keys", "values")
+
+WALKERS = ("list", "tuple", "dict", "sorted", "sum", "any", "all", "enumerate", "zip", "min", "max")
+
 
 def told_names(tree):
     """Every name that a file binds or draws, at its top or within."""
@@ -69,6 +78,33 @@ def top_names(tree):
             found.extend([target.id for target in node.targets])
         elif isinstance(node, ast.ImportFrom):
             found.extend([alias.name for alias in node.names])
+    return found
+
+
+def called(node):
+    """The name by which a call calls, of a function or of a method."""
+    return node.func.attr if isinstance(node.func, ast.Attribute) else ast.unparse(node.func)
+
+
+def is_plain(node, functions):
+    """Whether this may be the value of a name at a file's top."""
+    if isinstance(node, ast.Dict):
+        return all(is_plain(part, functions) for part in node.keys + node.values)
+    if isinstance(node, (ast.List, ast.Tuple)):
+        return all(is_plain(part, functions) for part in node.elts)
+    if isinstance(node, ast.UnaryOp):
+        return isinstance(node.op, ast.USub) and isinstance(node.operand, ast.Constant)
+    return isinstance(node, ast.Constant) or (isinstance(node, ast.Name) and node.id in functions)
+
+
+def walked_on_the_spot(tree):
+    """Every expression of a file that stands where it is walked at once."""
+    found = []
+    for node in ast.walk(tree):
+        if isinstance(node, (ast.For, ast.comprehension)):
+            found.append(node.iter)
+        elif isinstance(node, ast.Call) and (called(node) in WALKERS or called(node) == "join"):
+            found.extend(node.args[:1])
     return found
 
 
@@ -207,6 +243,47 @@ class Language(unittest.TestCase):
         for where, node in self.nodes(ast.Call):
             if isinstance(node.func, ast.Attribute):
                 self.assertIn(node.func.attr, METHODS + own, where)
+
+    def test_values_at_the_top_are_plain(self):
+        for name, tree in self.trees.items():
+            functions = [node.name for node in tree.body if isinstance(node, ast.FunctionDef)]
+            for node in tree.body:
+                if isinstance(node, ast.Assign):
+                    self.assertTrue(is_plain(node.value, functions), f"{name}:{node.lineno}")
+                    for inner in list(ast.walk(node.value))[1:]:
+                        self.assertNotIsInstance(inner, (ast.List, ast.Dict), f"{name}:{node.lineno}")
+
+    def test_keywords(self):
+        for where, node in self.nodes(ast.Call):
+            for keyword in node.keywords:
+                self.assertIn(keyword.arg, KEYWORDS.get(called(node), ()), where)
+
+    def test_walked_at_once(self):
+        for name, tree in self.trees.items():
+            allowed = walked_on_the_spot(tree)
+            for node in ast.walk(tree):
+                if isinstance(node, ast.Call):
+                    is_method = isinstance(node.func, ast.Attribute)
+                    if called(node) in (WALKED_METHODS if is_method else WALKED):
+                        self.assertIn(node, allowed, f"{name}:{node.lineno}")
+
+    def test_exponents_are_written(self):
+        for where, node in self.nodes(ast.BinOp):
+            if isinstance(node.op, ast.Pow):
+                self.assertIsInstance(node.right, ast.Constant, where)
+                self.assertIn(node.right.value, range(65), where)
+
+    def test_what_lies_at_the_top_is_only_read(self):
+        for name, tree in self.trees.items():
+            rows = [node for node in tree.body if isinstance(node, ast.Assign)]
+            kept = [row.targets[0].id for row in rows if isinstance(row.value, (ast.List, ast.Dict))]
+            kept.extend([alias.name for node in tree.body if isinstance(node, ast.ImportFrom) for alias in node.names
+                         if alias.name.isupper()])
+            for node in ast.walk(tree):
+                if isinstance(node, ast.Subscript) and not isinstance(node.ctx, ast.Load):
+                    self.assertNotIn(ast.unparse(node.value), kept, f"{name}:{node.lineno}")
+                if isinstance(node, ast.Attribute) and ast.unparse(node.value) in kept:
+                    self.assertIn(node.attr, ("get", "index", "count", "items", "keys", "values"), f"{name}:{node.lineno}")
 
     def test_a_set_is_not_kept(self):
         for name, tree in self.trees.items():

@@ -3,36 +3,13 @@
 import copy
 import unittest
 
+from making import SIGNS, WORDS, deeper, num, ref, sixty_leaves
 from slate.places import between
 from slate.trees import deep, leaves, meant, parts
-
-LOOSE = (False, False)
-SIGNS = ("+", "-", "*", "/", "<", "=")
-WORDS = ("SUM", "COUNT", "MAX")
-
-
-def num(number):
-    return ("num", number)
-
-
-def ref(row, column, fixed=LOOSE):
-    return ("ref", (row, column), fixed)
 
 
 def area(first, last):
     return ("area", ref(*first), ref(*last, (True, False)))
-
-
-def deeper(tree, times):
-    for time in range(times):
-        tree = ("minus", tree)
-    return tree
-
-
-def sixty_leaves():
-    eights = [("over", "MAX", [ref(row, column) for column in range(8)]) for row in range(7)]
-    fours = ("over", "SUM", [ref(7, column) for column in range(4)])
-    return ("over", "COUNT", eights + [fours])
 
 
 class Parts(unittest.TestCase):
