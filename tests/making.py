@@ -55,6 +55,20 @@ def sixty_leaves():
     return ("over", "COUNT", eights + [fours])
 
 
+def each_kind(one, other):
+    """A tree of each kind with these two leaves in it."""
+    return [minus(one), pick(one, other, num(1)), pick(num(1), GONE, one), twelve_deep(other),
+            two("+", minus(one), over(other, minus(one)))] + [two(sign, one, other) for sign in SIGNS] + [
+        over(one, num(5), other, word=word) for word in WORDS]
+
+
+def with_lists():
+    """Trees with lists in them, some of them with one list at two places."""
+    inner = over(ref(3, 0), area((0, 0), (4, 4)), word="MAX")
+    return [inner, over(num(1)), over(GONE), over(inner, minus(inner)), two("+", inner, inner),
+            pick(inner, num(1), over(num(2))), sixty_leaves(), twelve_deep(over(ref(1, 1)))]
+
+
 def lists_in(tree):
     """Every list within a tree, each as often as it stands there."""
     found = [tree] if isinstance(tree, list) else []

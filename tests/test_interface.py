@@ -26,6 +26,14 @@ FUNCTIONS = {
         "come_tree": ["tree", "axis", "at", "many"],
         "go_tree": ["tree", "axis", "at", "many"],
     },
+    "copying": {"copy_tree": ["tree", "down", "right", "size"]},
+    "values": {
+        "is_trouble": ["value"],
+        "bounded": ["number"],
+        "put_together": ["sign", "one", "other"],
+        "gathered": ["word", "values"],
+    },
+    "reckoning": {"reckoned": ["tree", "look"]},
 }
 
 STAGES = (

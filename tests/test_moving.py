@@ -4,8 +4,8 @@ import copy
 import itertools
 import unittest
 
-from making import (FIXED, GONE, SIGNS, WORDS, area, lists_in, minus, num, over, pick, ref, sixty_leaves,
-                    twelve_deep, two)
+from making import (FIXED, GONE, area, each_kind, lists_in, minus, num, over, ref, sixty_leaves, twelve_deep,
+                    with_lists)
 from slate.moving import come_place, come_tree, go_place, go_tree
 from slate.places import between, in_order
 from slate.trees import meant
@@ -90,13 +90,6 @@ class GoPlace(MovingCase):
         for axis, number, at, many in itertools.product((0, 1), range(8), range(9), (1, 2, 5)):
             place = on(axis, number)
             self.assert_same(go_place(come_place(place, axis, at, many), axis, at, many), place)
-
-
-def each_kind(one, other):
-    """A tree of each kind with these two leaves in it."""
-    return [minus(one), pick(one, other, num(1)), pick(num(1), GONE, one), twelve_deep(other),
-            two("+", minus(one), over(other, minus(one)))] + [two(sign, one, other) for sign in SIGNS] + [
-        over(one, num(5), other, word=word) for word in WORDS]
 
 
 class ComeTree(MovingCase):
@@ -227,13 +220,8 @@ class GoTree(MovingCase):
 
 
 class TheAskersOwn(MovingCase):
-    def trees(self):
-        inner = over(ref(3, 0), area((0, 0), (4, 4)), word="MAX")
-        return [inner, over(num(1)), over(GONE), over(inner, minus(inner)), two("+", inner, inner),
-                pick(inner, num(1), over(num(2))), sixty_leaves(), twelve_deep(over(ref(1, 1)))]
-
     def test_the_tree_handed_in_stays(self):
-        for tree, axis, move in itertools.product(self.trees(), (0, 1), (come_tree, go_tree)):
+        for tree, axis, move in itertools.product(with_lists(), (0, 1), (come_tree, go_tree)):
             kept = copy.deepcopy(tree)
             move(tree, axis, 1, 2)
             move(tree, axis, 50, 2)
@@ -241,7 +229,7 @@ class TheAskersOwn(MovingCase):
 
     def test_the_moved_one_shares_no_list(self):
         # Also where nothing moved, and where one list stood twice in the tree.
-        for tree, axis, at, move in itertools.product(self.trees(), (0, 1), (1, 50), (come_tree, go_tree)):
+        for tree, axis, at, move in itertools.product(with_lists(), (0, 1), (1, 50), (come_tree, go_tree)):
             told = move(tree, axis, at, 2)
             wanted = copy.deepcopy(told)
             handed = {id(row) for row in lists_in(tree)}
@@ -253,7 +241,7 @@ class TheAskersOwn(MovingCase):
             self.assert_same(told, wanted)
 
     def test_a_moved_one_that_is_changed_changes_nothing(self):
-        for tree, axis, move in itertools.product(self.trees(), (0, 1), (come_tree, go_tree)):
+        for tree, axis, move in itertools.product(with_lists(), (0, 1), (come_tree, go_tree)):
             kept = copy.deepcopy(tree)
             wanted = copy.deepcopy(move(tree, axis, 1, 2))
             for row in lists_in(move(tree, axis, 1, 2)):
