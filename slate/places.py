@@ -47,3 +47,11 @@ def between(first, last):
 
 def in_order(places):
     return sorted(set(places))
+
+
+def marked(places):
+    # Asked with `in`: of a list, each asking would walk what may be a whole sheet.
+    found = {}
+    for place in places:
+        found[place] = True
+    return found

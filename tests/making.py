@@ -1,4 +1,9 @@
-"""What several tests make trees with."""
+"""What several tests make trees, places and contents with."""
+
+import re
+
+from slate.places import place_of
+from slate.reading import read_formula
 
 LOOSE = (False, False)
 FIXED = ((False, False), (False, True), (True, False), (True, True))
@@ -74,4 +79,25 @@ def lists_in(tree):
     found = [tree] if isinstance(tree, list) else []
     for part in tree if isinstance(tree, (list, tuple)) else ():
         found.extend(lists_in(part))
+    return found
+
+
+def places(names):
+    """The places of some names with blanks between."""
+    return [place_of(name) for name in names.split()]
+
+
+def place_dict(text):
+    """`A1<B2 C3, B2<` is a dict from A1 to the places B2 and C3, and from B2 to none."""
+    pairs = [row.split("<") for row in text.split(",") if row.strip()]
+    return {place_of(key.strip()): places(names) for key, names in pairs}
+
+
+def cells(text):
+    """`A1 := 5, B1 := =SUM(A1,1)` as contents: the text is cut at commas that have a blank behind them."""
+    found = {}
+    for row in re.split(r",\s+", text):
+        if row.strip():
+            name, content = row.strip().split(" := ")
+            found[place_of(name)] = read_formula(content[1:]) if content[0] == "=" else int(content)
     return found

@@ -34,6 +34,19 @@ FUNCTIONS = {
         "gathered": ["word", "values"],
     },
     "reckoning": {"reckoned": ["tree", "look"]},
+    "leaning": {"sorted_out": ["leans"]},
+    "rings": {"ring_of": ["nexts", "place"]},
+    "settling": {
+        "leans_of": ["contents"],
+        "settled": ["contents", "ahead", "others"],
+        "from_start": ["contents"],
+    },
+    "sheets": {
+        "opened": ["rows", "columns"],
+        "value_at": ["sheet", "place"],
+        "text_at": ["sheet", "place"],
+        "ring_at": ["sheet", "place"],
+    },
 }
 
 STAGES = (
