@@ -22,7 +22,7 @@ def order_of(leans):
         key = ready.pop()
         order.append(key)
         for leaner in leaners[key]:
-            waits[leaner] -= 1
+            waits[leaner] = waits[leaner] - 1
             if waits[leaner] == 0:
                 ready.insert(spot_of(leaner, ready), leaner)
     return order

@@ -4,7 +4,7 @@ from slate.errors import BadSize, Outside
 from slate.leaning import sorted_out
 from slate.places import MOST_COLUMNS, MOST_ROWS, inside
 from slate.rings import ring_of
-from slate.settling import is_formula, leans_of
+from slate.settling import is_formula, leans_of, settled
 from slate.writing import formula_text
 
 
@@ -37,3 +37,9 @@ def text_at(sheet, place):
 def ring_at(sheet, place):
     want_inside(sheet, place)
     return ring_of(sorted_out(leans_of(sheet[1]))[1], place)
+
+
+def sheet_behind(size, contents, ahead, others):
+    # What every deed gives: the new sheet and the log.
+    found = settled(contents, ahead, others)
+    return ((size, contents, found[0]), found[1])

@@ -69,7 +69,7 @@ def token_of(piece, at):
         return ("sign", piece, at)
     if piece in WORDS:
         return ("word", piece, at)
-    if is_number(piece):
+    if is_number(piece, MOST_FIGURES):
         return ("num", int(piece), at)
     name = piece.replace("$", "")
     if is_name(name):
@@ -77,9 +77,9 @@ def token_of(piece, at):
     return ("none", "", at)
 
 
-def is_number(piece):
+def is_number(piece, most):
     # The length comes first: Python refuses to read a very long run of figures.
-    if piece == "" or len(piece) > MOST_FIGURES:
+    if piece == "" or len(piece) > most:
         return False
     if piece[0] == "0" and piece != "0":
         return False

@@ -1,15 +1,23 @@
-"""What several tests make trees, places and contents with."""
+"""What several tests make trees, places, contents and sheets with, and how they look at deeds."""
 
+import copy
 import re
+import unittest
 
+from slate.errors import SlateError
+from slate.leaning import sorted_out
 from slate.places import place_of
 from slate.reading import read_formula
+from slate.reckoning import reckoned
+from slate.settling import from_start, leans_of
+from slate.trees import meant
 
 LOOSE = (False, False)
 FIXED = ((False, False), (False, True), (True, False), (True, True))
 SIGNS = ("+", "-", "*", "/", "<", "=")
 WORDS = ("SUM", "COUNT", "MAX")
 GONE = ("gone",)
+TROUBLES = ("gone", "nought", "great", "ring")
 
 
 def num(number):
@@ -101,3 +109,68 @@ def cells(text):
             name, content = row.strip().split(" := ")
             found[place_of(name)] = read_formula(content[1:]) if content[0] == "=" else int(content)
     return found
+
+
+def values(text):
+    """`A1=5 B1=ring C1=` as a dict of values: 5, the trouble ring, None."""
+    found = {}
+    for pair in text.split():
+        name, value = pair.split("=")
+        found[place_of(name)] = value if value in TROUBLES else int(value) if value else None
+    return found
+
+
+def log_of(text):
+    pairs = [pair.split("<") for pair in text.split()]
+    return [(place_of(place), place_of(why)) for place, why in pairs]
+
+
+def sheet_of(text, size=(5, 4)):
+    contents = cells(text)
+    return (size, contents, from_start(contents))
+
+
+def settled_plainly(contents, ahead, others):
+    """What is shown and the log, as point 62 says it word by word."""
+    order, nexts = sorted_out(leans_of(contents))
+    behind = {place: content for place, content in contents.items() if not isinstance(content, tuple)}
+    behind.update({place: "ring" for place in nexts})
+    log = []
+    for place in order:
+        leant = [other for other in meant(contents[place]) if behind.get(other) != ahead.get(other)]
+        if place in others or ahead.get(place) == "ring":
+            log.append((place, place))
+        elif leant:
+            log.append((place, min(leant)))
+        if log and log[-1][0] == place:
+            behind[place] = reckoned(contents[place], behind)
+        else:
+            behind[place] = ahead.get(place)
+    return {place: behind[place] for place in sorted(behind)}, log
+
+
+class DeedCase(unittest.TestCase):
+    def assert_deed(self, deed, sheet, told, wanted, log):
+        """That a deed, told this, gives the wanted sheet and log, and leaves the sheet handed in."""
+        # By their written forms: so kinds are looked at too, and the order of the keys of what is shown. Asked twice.
+        kept = copy.deepcopy((sheet, told))
+        for time in range(2):
+            behind, found = deed(sheet, *told)
+            self.assertEqual(repr(found), repr(log))
+            self.assertEqual(repr(behind[0]), repr(wanted[0]))
+            self.assertEqual(repr(sorted(behind[1].items())), repr(sorted(wanted[1].items())))
+            self.assertEqual(repr(behind[2]), repr(wanted[2]))
+            self.assertEqual([len(behind), isinstance(behind, tuple)], [3, True])
+            self.assertEqual(repr((sheet, told)), repr(kept))
+            # What is told is the asker's own.
+            found.append("changed")
+            behind[1].clear()
+            behind[2].clear()
+            self.assertEqual(repr((sheet, told)), repr(kept))
+
+    def assert_refused(self, error, deed, sheet, *told):
+        kept = copy.deepcopy((sheet, told))
+        with self.assertRaises(error) as caught:
+            deed(sheet, *told)
+        self.assertIsInstance(caught.exception, SlateError)
+        self.assertEqual(repr((sheet, told)), repr(kept))

@@ -47,6 +47,10 @@ FUNCTIONS = {
         "text_at": ["sheet", "place"],
         "ring_at": ["sheet", "place"],
     },
+    "deeds": {"put": ["sheet", "place", "content"], "copy": ["sheet", "start", "place"]},
+    "spans": {"come": ["sheet", "axis", "at", "many"], "go": ["sheet", "axis", "at", "many"]},
+    "rows": {"read_row": ["text"]},
+    "desk": {"done": ["sheet", "text"], "run": ["texts"]},
 }
 
 STAGES = (
@@ -93,6 +97,11 @@ class Interface(unittest.TestCase):
                 self.assertTrue(inspect.isfunction(function), name)
                 self.assertEqual(list(inspect.signature(function).parameters), arguments, name)
                 self.assertEqual(function.__module__, "slate." + module)
+
+    def test_each_module_of_the_document_is_there_and_no_other(self):
+        told = [module for modules in STAGES for module in modules]
+        self.assertEqual(sorted(draws()), sorted(told + ["__init__"]))
+        self.assertEqual(sorted(FUNCTIONS), sorted(set(told) - {"errors"}))
 
     def test_a_module_draws_from_its_stage_and_lower_ones_alone(self):
         found = draws()

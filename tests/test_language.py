@@ -49,6 +49,8 @@ WALKED = ("zip", "enumerate", "reversed", "range")
 
 WALKED_METHODS = ("items", "keys", "values")
 
+CHANGES = ("append", "clear", "extend", "insert", "pop", "remove", "reverse", "setdefault", "update")
+
 WALKERS = ("list", "tuple", "dict", "sorted", "sum", "any", "all", "enumerate", "zip", "min", "max")
 
 
@@ -105,6 +107,26 @@ def walked_on_the_spot(tree):
             found.append(node.iter)
         elif isinstance(node, ast.Call) and (called(node) in WALKERS or called(node) == "join"):
             found.extend(node.args[:1])
+    return found
+
+
+def walked_things(node):
+    """What a loop walks, itself or through enumerate, zip, reversed, items and their like, as it is written."""
+    if not isinstance(node, ast.Call):
+        return [ast.unparse(node)]
+    if isinstance(node.func, ast.Attribute):
+        return [ast.unparse(node.func.value)] if node.func.attr in WALKED_METHODS else []
+    return [thing for part in node.args for thing in walked_things(part)] if called(node) in WALKED else []
+
+
+def changed_things(loop):
+    """What is changed in a loop by an index or by a call, as it is written."""
+    found = []
+    for node in ast.walk(loop):
+        if isinstance(node, ast.Subscript) and isinstance(node.ctx, ast.Store):
+            found.append(ast.unparse(node.value))
+        elif isinstance(node, ast.Call) and isinstance(node.func, ast.Attribute) and node.func.attr in CHANGES:
+            found.append(ast.unparse(node.func.value))
     return found
 
 
@@ -266,6 +288,12 @@ class Language(unittest.TestCase):
                     is_method = isinstance(node.func, ast.Attribute)
                     if called(node) in (WALKED_METHODS if is_method else WALKED):
                         self.assertIn(node, allowed, f"{name}:{node.lineno}")
+
+    def test_what_a_loop_walks_is_not_changed_in_it(self):
+        for where, node in self.nodes(ast.For):
+            changed = changed_things(node)
+            for thing in walked_things(node.iter):
+                self.assertNotIn(thing, changed, where)
 
     def test_exponents_are_written(self):
         for where, node in self.nodes(ast.BinOp):

@@ -5,48 +5,12 @@ import itertools
 import random
 import unittest
 
-from making import GONE, WORDS, area, cells, each_kind, minus, num, over, pick, places, ref, sixty_leaves, two
-from slate.leaning import sorted_out
-from slate.places import between, place_name, place_of
+from making import (GONE, TROUBLES, WORDS, area, cells, each_kind, log_of, minus, num, over, pick, places, ref,
+                    settled_plainly, sixty_leaves, two, values)
+from slate.places import between, place_name
 from slate.reading import read_formula
-from slate.reckoning import reckoned
 from slate.settling import from_start, leans_of, settled
 from slate.trees import meant
-
-TROUBLES = ("gone", "nought", "great", "ring")
-
-
-def values(text):
-    """`A1=5 B1=ring C1=` as a dict of values: 5, the trouble ring, None."""
-    found = {}
-    for pair in text.split():
-        name, value = pair.split("=")
-        found[place_of(name)] = value if value in TROUBLES else int(value) if value else None
-    return found
-
-
-def log_of(text):
-    pairs = [pair.split("<") for pair in text.split()]
-    return [(place_of(place), place_of(why)) for place, why in pairs]
-
-
-def settled_plainly(contents, ahead, others):
-    """As point 62 says it word by word."""
-    order, nexts = sorted_out(leans_of(contents))
-    behind = {place: content for place, content in contents.items() if not isinstance(content, tuple)}
-    behind.update({place: "ring" for place in nexts})
-    log = []
-    for place in order:
-        leant = [other for other in meant(contents[place]) if behind.get(other) != ahead.get(other)]
-        if place in others or ahead.get(place) == "ring":
-            log.append((place, place))
-        elif leant:
-            log.append((place, min(leant)))
-        if log and log[-1][0] == place:
-            behind[place] = reckoned(contents[place], behind)
-        else:
-            behind[place] = ahead.get(place)
-    return {place: behind[place] for place in sorted(behind)}, log
 
 
 class SettlingCase(unittest.TestCase):

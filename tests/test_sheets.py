@@ -3,7 +3,7 @@
 import copy
 import unittest
 
-from making import cells, deeper, each_kind, num, over, places, ref, two
+from making import cells, deeper, each_kind, num, over, places, ref, sheet_of, two
 from slate.errors import BadSize, NoRing, Outside, SlateError
 from slate.places import between
 from slate.settling import from_start
@@ -11,11 +11,6 @@ from slate.sheets import opened, ring_at, text_at, value_at
 from slate.writing import formula_text
 
 QUESTIONS = (value_at, text_at, ring_at)
-
-
-def sheet_of(text, size=(5, 4)):
-    contents = cells(text)
-    return (size, contents, from_start(contents))
 
 
 class SheetCase(unittest.TestCase):
