@@ -40,6 +40,6 @@ def ring_at(sheet, place):
 
 
 def sheet_behind(size, contents, ahead, others):
-    # What every deed gives: the new sheet and the log.
+    # All deeds end here: so no sheet is told that is not settled.
     found = settled(contents, ahead, others)
     return ((size, contents, found[0]), found[1])

@@ -16,7 +16,6 @@ class Span:
         self.many = many
 
     def place_behind(self, place):
-        # None where the place goes.
         if self.comes:
             return come_place(place, self.axis, self.at, self.many)
         return go_place(place, self.axis, self.at, self.many)
@@ -70,7 +69,7 @@ def moved(sheet, size, span):
 
 
 def shown_ahead(shown, span):
-    # What was shown ahead, told for the places behind.
+    # By the places behind: settling looks at each place ahead and behind by one key.
     ahead = {}
     for place in shown:
         behind = span.place_behind(place)
